@@ -1,0 +1,71 @@
+"""The interface of DOC.md: names, parameters with their defaults, and where each is defined."""
+
+import importlib
+import inspect
+import unittest
+
+# For each file its functions and classes, and for each class its methods.
+INTERFACE = {
+    "frames": {
+        "Frames": {
+            "": "(many)", "take": "(words=None)", "share": "(frame)", "drop": "(frame)",
+            "peek": "(frame, offset)", "poke": "(frame, offset, word)", "page": "(frame)", "holds": "(frame)",
+            "many": "property", "free": "property",
+        },
+    },
+    "spaces": {
+        "Plain": {
+            "": "(pages, words=())", "read": "(address)", "write": "(address, word)", "contents": "()",
+            "pages": "property",
+        },
+        "Space": {
+            "": "(frames, *, pages=4)", "read": "(address)", "write": "(address, word)", "contents": "()",
+            "table": "()", "fork": "()", "close": "()", "__getitem__": "(at)", "__setitem__": "(at, worth)",
+            "__contains__": "(x)", "pages": "property",
+        },
+    },
+    "instructions": {"code_of": "(instruction)", "instruction_of": "(word)"},
+}
+ERRORS = ["WardError", "SourceError", "BadArgument", "BadText", "LabelTwice", "LabelMissing", "TooLong", "Unknown",
+          "Taken", "NotAllowed", "WrongState", "RingOfWaits", "Full", "Stopped"]
+
+
+def told_of(member):
+    """How the interface writes a member of a class: its parameters without self, or its sort."""
+    if isinstance(member, property):
+        return "property"
+    if isinstance(member, staticmethod):
+        return "static " + str(inspect.signature(member.__func__))
+    signature = inspect.signature(member)
+    return str(signature.replace(parameters=list(signature.parameters.values())[1:]))
+
+
+class InterfaceTest(unittest.TestCase):
+    def test_functions_and_classes(self):
+        for module_name, names in INTERFACE.items():
+            module = importlib.import_module("wardwork." + module_name)
+            for name, told in names.items():
+                thing = vars(module)[name]
+                self.assertEqual(module.__name__, thing.__module__, name)
+                if inspect.isclass(thing):
+                    self.same_class(thing, told)
+                else:
+                    self.assertEqual(told, str(inspect.signature(thing)), name)
+
+    def same_class(self, made, members):
+        for name, told in members.items():
+            with self.subTest(made=made.__name__, member=name):
+                if name == "":
+                    self.assertEqual(told, str(inspect.signature(made)))
+                else:
+                    # The member stands in the class itself, not in a base class.
+                    self.assertEqual(told, told_of(vars(made)[name]))
+
+    def test_errors(self):
+        module = importlib.import_module("wardwork.errors")
+        for name in ERRORS:
+            self.assertEqual("wardwork.errors", vars(module)[name].__module__)
+
+
+if __name__ == "__main__":
+    unittest.main()

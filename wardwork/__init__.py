@@ -1,0 +1,1 @@
+"""Wardwork: a small operating system in plain Python values."""
