@@ -25,6 +25,22 @@ INTERFACE = {
         },
     },
     "instructions": {"code_of": "(instruction)", "instruction_of": "(word)"},
+    "source": {"read_source": "(text)", "print_source": "(rows)"},
+    "assembler": {
+        "assemble": "(rows)", "disassemble": "(words, *, labels=())", "reach": "(words, start=0)",
+    },
+    "machine": {
+        "step": "(core, memory)", "run_alone": "(core, contents, answers, *, limit=200)",
+    },
+    "ages": {
+        "Ages": {
+            "": "()", "enter": "(pid, priority=3, *, ready=True)", "leave": "(pid)", "wake": "(pid)",
+            "sleep": "(pid)", "lend": "(pid, priority=0)", "pick": "()", "priority": "(pid)", "age": "(pid)",
+            "rows": "()", "state": "()", "__contains__": "(x)", "bound": "static (priority, count=8)",
+            "restored": "static (state)",
+        },
+        "is_pick_log": "(log)", "longest_wait": "(log, pid)",
+    },
 }
 ERRORS = ["WardError", "SourceError", "BadArgument", "BadText", "LabelTwice", "LabelMissing", "TooLong", "Unknown",
           "Taken", "NotAllowed", "WrongState", "RingOfWaits", "Full", "Stopped"]

@@ -31,7 +31,7 @@ def wrong_calls(right, wrong):
     for at, name in enumerate(asked):
         for value in wrong[name]:
             yield name, {**right, name: value}
-        for later in asked[at + 1:]:
-            yield name, {**right, name: wrong[name][0], later: wrong[later][-1]}
+            for later in asked[at + 1:]:
+                yield name, {**right, name: value, later: wrong[later][-1]}
     if asked:
         yield asked[0], {**right, **{name: wrong[name][0] for name in asked}}

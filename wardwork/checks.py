@@ -33,6 +33,11 @@ def ask_word(name, word):
         raise BadArgument(name)
 
 
+def ask_truth(name, truth):
+    if not isinstance(truth, bool):
+        raise BadArgument(name)
+
+
 def ask_words(name, words, least, most):
     """Asks for a list of words whose length is from least to most."""
     if not isinstance(words, list) or not least <= len(words) <= most or not are_words(words):
