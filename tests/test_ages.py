@@ -5,18 +5,12 @@ import random
 import unittest
 
 from tests.cases import WardCase
-from tests.values import NO_INTEGERS, no_integers_of
+from tests.values import NO_INTEGERS, is_plain, no_integers_of
 from wardwork.ages import Ages, is_pick_log, longest_wait
 from wardwork.errors import BadArgument, Taken, Unknown
 
 NO_PIDS = no_integers_of(0, 7)
 NO_TRUTHS = [x for x in NO_INTEGERS if not isinstance(x, bool)] + [0, 1, 2, -1]
-
-
-def is_plain(value):
-    if isinstance(value, (list, tuple)):
-        return all(is_plain(part) for part in value)
-    return value is None or isinstance(value, (int, str))
 
 
 def ages_of(*rows):

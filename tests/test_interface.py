@@ -41,6 +41,33 @@ INTERFACE = {
         },
         "is_pick_log": "(log)", "longest_wait": "(log, pid)",
     },
+    "keeper": {
+        "Keeper": {
+            "": "(frames, slots)", "admit": "(owner, pages=4, words=())", "fork": "(parent, child)",
+            "dismiss": "(owner)", "read": "(owner, address)", "write": "(owner, address, word)",
+            "contents": "(owner)", "table": "(owner)", "tables": "()", "certificate": "()", "state": "()",
+            "__contains__": "(x)", "moves": "property", "room_left": "property", "restored": "static (state)",
+        },
+        "Window": {
+            "": "(keeper, owner)", "read": "(address)", "write": "(address, word)", "contents": "()",
+            "pages": "property",
+        },
+    },
+    "ownership": {
+        "is_ownership": "(certificate, tables, *, frames, slots)", "shared_places": "(certificate)",
+    },
+    "gates": {
+        "Gates": {
+            "": "(seats)", "enter": "(pid, priority=3)", "leave": "(pid)",
+            "acquire": "(pid, gate, *, cautious=False)", "release": "(pid, gate)", "withdraw": "(pid)",
+            "effective": "(pid)", "holders": "(gate)", "queue": "(gate)", "held": "(pid)", "waiting": "(pid)",
+            "waits": "()", "state": "()", "__contains__": "(x)", "restored": "static (state)",
+        },
+    },
+    "waits": {
+        "find_ring": "(waits)", "is_ring": "(ring, waits)", "find_order": "(waits)", "is_order": "(order, waits)",
+        "find_cycle": "(waits)", "is_cycle": "(cycle, waits)",
+    },
 }
 ERRORS = ["WardError", "SourceError", "BadArgument", "BadText", "LabelTwice", "LabelMissing", "TooLong", "Unknown",
           "Taken", "NotAllowed", "WrongState", "RingOfWaits", "Full", "Stopped"]

@@ -84,6 +84,24 @@ class PackageTest(unittest.TestCase):
                 del above[name]
 
 
+class NamesTest(unittest.TestCase):
+    """L5 and L18: what a name means in one class it means in all."""
+
+    def test_no_name_has_two_meanings(self):
+        trees = [ast.parse(path.read_text("utf-8")) for path in files()]
+        meanings = {}
+        for node in [node for tree in trees for node in ast.walk(tree)]:
+            if isinstance(node, ast.ClassDef):
+                for part in [part for part in node.body if isinstance(part, ast.FunctionDef)]:
+                    sort = part.decorator_list[0].id if part.decorator_list else "method"
+                    meanings.setdefault(part.name, set()).add(sort)
+            elif isinstance(node, ast.Attribute) and not isinstance(node.ctx, ast.Load):
+                meanings.setdefault(node.attr, set()).add("attribute")
+        self.assertEqual({}, {name: sorts for name, sorts in meanings.items() if len(sorts) > 1})
+        self.assertEqual({"property"}, meanings["pages"])
+        self.assertEqual({"staticmethod"}, meanings["restored"])
+
+
 class CheckerTest(unittest.TestCase):
     def test_each_wrong_text_is_found(self):
         for rule, text in WRONG:

@@ -35,3 +35,21 @@ def wrong_calls(right, wrong):
                 yield name, {**right, name: value, later: wrong[later][-1]}
     if asked:
         yield asked[0], {**right, **{name: wrong[name][0] for name in asked}}
+
+
+def is_plain(value):
+    """Tells whether a value is a plain value of [2], but for its size and depth."""
+    if isinstance(value, (list, tuple)):
+        return all(is_plain(part) for part in value)
+    if isinstance(value, str):
+        return all(" " <= sign <= "~" and sign != "%" for sign in value)
+    return value is None or isinstance(value, int)
+
+
+def spoil(value):
+    """Empties every list of a plain value, at any depth."""
+    for part in list(value):
+        if isinstance(part, (list, tuple)):
+            spoil(part)
+    if isinstance(value, list):
+        value.clear()

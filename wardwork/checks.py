@@ -23,6 +23,10 @@ def are_words(parts):
     return all(is_word(part) for part in parts)
 
 
+def is_pair(x):
+    return isinstance(x, tuple) and len(x) == 2
+
+
 def ask_range(name, number, least, most):
     if not is_in_range(number, least, most):
         raise BadArgument(name)
@@ -41,4 +45,10 @@ def ask_truth(name, truth):
 def ask_words(name, words, least, most):
     """Asks for a list of words whose length is from least to most."""
     if not isinstance(words, list) or not least <= len(words) <= most or not are_words(words):
+        raise BadArgument(name)
+
+
+def ask_first_words(name, words, most):
+    """Asks for a list or a tuple of at most so many words."""
+    if not isinstance(words, (list, tuple)) or len(words) > most or not are_words(words):
         raise BadArgument(name)

@@ -1,6 +1,6 @@
 """Source rows of the machine language, read from a text and printed as one."""
 
-from wardwork.checks import is_word
+from wardwork.checks import is_pair, is_word
 from wardwork.errors import BadArgument, BadText
 from wardwork.instructions import REGISTERS, is_instruction, is_number, operands_of
 
@@ -38,7 +38,7 @@ def label_used(body):
 
 
 def _is_row(x):
-    if not isinstance(x, tuple) or len(x) != 2:
+    if not is_pair(x):
         return False
     label, body = x
     return (label is None or _is_label(label)) and (body is None or _is_body(body))

@@ -1,7 +1,7 @@
 """Memories: Plain keeps its words in a list, Space in shared frames."""
 
-from wardwork.checks import are_words, ask_range, ask_word, is_in_range
-from wardwork.errors import BadArgument, WrongState
+from wardwork.checks import ask_first_words, ask_range, ask_word, is_in_range
+from wardwork.errors import WrongState
 
 
 class Plain:
@@ -9,8 +9,7 @@ class Plain:
 
     def __init__(self, pages, words=()):
         ask_range("pages", pages, 1, 16)
-        if not isinstance(words, (list, tuple)) or len(words) > 8 * pages or not are_words(words):
-            raise BadArgument("words")
+        ask_first_words("words", words, 8 * pages)
         self._words = list(words) + [0] * (8 * pages - len(words))
 
     @property
