@@ -1,5 +1,7 @@
 """A model of the keeper for the tests: sheets are objects with a place and the time of their last touch."""
 
+import copy
+
 
 class Sheet:
     def __init__(self, words):
@@ -129,5 +131,6 @@ def make(keeper, row):
 def seen(keeper):
     """All that a keeper tells, and its state."""
     owners = [owner for owner in range(8) if owner in keeper]
-    return (owners, keeper.moves, keeper.room_left, keeper.tables(), keeper.certificate(),
+    told = (owners, keeper.moves, keeper.room_left, keeper.tables(), keeper.certificate(),
             [keeper.contents(owner) for owner in owners], [keeper.table(owner) for owner in owners], keeper.state())
+    return copy.deepcopy(told)

@@ -78,8 +78,9 @@ class Model:
 def seen(gates, many):
     """All that gates tell, as the model does."""
     pids = [pid for pid in range(8) if pid in gates]
-    return ([gates.holders(gate) for gate in range(many)], [gates.queue(gate) for gate in range(many)],
+    told = ([gates.holders(gate) for gate in range(many)], [gates.queue(gate) for gate in range(many)],
             [(pid, gates.effective(pid), gates.held(pid), gates.waiting(pid)) for pid in pids], gates.waits())
+    return copy.deepcopy(told)
 
 
 def random_call(chance, gates, many):

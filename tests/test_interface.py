@@ -68,6 +68,35 @@ INTERFACE = {
         "find_ring": "(waits)", "is_ring": "(ring, waits)", "find_order": "(waits)", "is_order": "(order, waits)",
         "find_cycle": "(waits)", "is_cycle": "(cycle, waits)",
     },
+    "safety": {
+        "find_safe_order": "(free, held, wanted)", "is_safe_order": "(order, free, held, wanted)",
+        "find_stuck": "(free, held, wanted)", "is_stuck": "(stuck, free, held, wanted)",
+        "Banker": {
+            "": "(total, claims)", "ask": "(who, amount)", "give": "(who, amount)", "held": "()", "wanted": "()",
+            "order": "()", "free": "property",
+        },
+    },
+    "pipes": {
+        "Pipe": {
+            "": "(room=4)", "send": "(word)", "receive": "()", "state": "()", "__iter__": "()", "room": "property",
+            "size": "property", "sent": "property", "received": "property", "restored": "static (state)",
+        },
+        "pack_letter": "(letter)", "unpack_letters": "(words)",
+        "Sender": {"": "(pipe)", "post": "(letter)", "push": "(count=1)", "pending": "property"},
+        "Receiver": {"": "(pipe)", "pull": "(count=1)", "partial": "property"},
+    },
+    "trunk": {
+        "Trunk": {
+            "": "(lanes=4, *, room=8)", "post": "(lane, words)", "push": "()", "pull": "()", "take": "(lane)",
+            "contents": "()", "waiting": "(lane)", "state": "()", "restored": "static (state)",
+        },
+    },
+    "disk": {
+        "Disk": {
+            "": "(blocks, *, stop=None)", "read": "(block)", "write": "(block, words)", "image": "()",
+            "writes": "property", "loaded": "static (image, *, stop=None)",
+        },
+    },
 }
 ERRORS = ["WardError", "SourceError", "BadArgument", "BadText", "LabelTwice", "LabelMissing", "TooLong", "Unknown",
           "Taken", "NotAllowed", "WrongState", "RingOfWaits", "Full", "Stopped"]

@@ -23,6 +23,15 @@ def are_words(parts):
     return all(is_word(part) for part in parts)
 
 
+def is_list_of_words(x, least, most):
+    return isinstance(x, list) and least <= len(x) <= most and are_words(x)
+
+
+def are_different(x):
+    """Tells whether the value is a list of integers without duplicates."""
+    return isinstance(x, list) and all(is_integer(part) for part in x) and len(set(x)) == len(x)
+
+
 def is_pair(x):
     return isinstance(x, tuple) and len(x) == 2
 
@@ -44,7 +53,7 @@ def ask_truth(name, truth):
 
 def ask_words(name, words, least, most):
     """Asks for a list of words whose length is from least to most."""
-    if not isinstance(words, list) or not least <= len(words) <= most or not are_words(words):
+    if not is_list_of_words(words, least, most):
         raise BadArgument(name)
 
 

@@ -125,7 +125,7 @@ class Gates:
 
     def _ask_no_ring(self, pid, gate):
         """Asks that the process, if it waited for the gate, could go on."""
-        ring = find_ring([*self.waits(), (pid, self._holders[gate])])
+        ring = find_ring(self.waits() + [(pid, self._holders[gate])])
         if pid in ring:
             raise RingOfWaits(ring)
 

@@ -1,6 +1,6 @@
 """Wait lists: who waits for whom, who can go on, and who waits in a ring or a cycle."""
 
-from wardwork.checks import is_integer
+from wardwork.checks import are_different
 
 
 def find_ring(waits):
@@ -9,7 +9,7 @@ def find_ring(waits):
 
 
 def is_ring(ring, waits):
-    if not _is_row_of_pids(ring):
+    if not are_different(ring) or len(ring) == 0:
         return False
     others = _others_of(waits)
     for pid in ring:
@@ -29,9 +29,7 @@ def find_order(waits):
 
 
 def is_order(order, waits):
-    if order == []:
-        return True
-    if not _is_row_of_pids(order):
+    if not are_different(order):
         return False
     others = _others_of(waits)
     for at, pid in enumerate(order):
@@ -54,7 +52,7 @@ def find_cycle(waits):
 
 
 def is_cycle(cycle, waits):
-    if not _is_row_of_pids(cycle):
+    if not are_different(cycle) or len(cycle) == 0:
         return False
     others = _others_of(waits)
     for at, pid in enumerate(cycle):
@@ -86,10 +84,3 @@ def _least_next(others, order):
         if pid not in order and _may_stand(others[pid], order):
             return pid
     return None
-
-
-def _is_row_of_pids(x):
-    """Tells whether the value is a list of pids that is not empty and has no duplicates."""
-    if not isinstance(x, list) or len(x) == 0 or not all(is_integer(pid) for pid in x):
-        return False
-    return len(set(x)) == len(x)
