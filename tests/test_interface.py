@@ -97,6 +97,29 @@ INTERFACE = {
             "writes": "property", "loaded": "static (image, *, stop=None)",
         },
     },
+    "journal": {
+        "commit": "(disk, changes)", "recover": "(disk)", "pending": "(disk)", "settled": "(image)",
+        "is_recovery": "(certificate, before, after)",
+    },
+    "files": {
+        "Files": {
+            "": "(disk)", "make_file": "(path)", "make_folder": "(path)", "write": "(path, words)",
+            "link": "(path, new)", "erase": "(path)", "rename": "(path, new)", "read": "(path)", "listing": "(path)",
+            "kind": "(path)", "links": "(path)", "tree": "()", "blocks_left": "()", "nodes_left": "()",
+            "__contains__": "(x)", "WORDS": "40", "ENTRIES": "10", "NODES": "16",
+        },
+    },
+    "soundness": {"is_sound": "(image)"},
+    "rights": {
+        "Rights": {
+            "": "()", "root": "(holder, thing, marks='rwg')", "hand_on": "(number, to, marks)",
+            "narrow": "(number, marks='')", "take_back": "(number)", "row": "(number)", "rows": "()",
+            "held": "(holder)", "may": "(holder, thing, mark)", "who": "(thing, mark)", "above": "(number)",
+            "state": "()", "__contains__": "(x)", "__iter__": "()", "restored": "static (state)",
+        },
+        "find_chain": "(rows, holder, thing, mark)", "is_chain": "(chain, rows, roots, holder, thing, mark)",
+        "is_book": "(rows, roots)",
+    },
 }
 ERRORS = ["WardError", "SourceError", "BadArgument", "BadText", "LabelTwice", "LabelMissing", "TooLong", "Unknown",
           "Taken", "NotAllowed", "WrongState", "RingOfWaits", "Full", "Stopped"]
@@ -108,6 +131,8 @@ def told_of(member):
         return "property"
     if isinstance(member, staticmethod):
         return "static " + str(inspect.signature(member.__func__))
+    if isinstance(member, int):
+        return repr(member)
     signature = inspect.signature(member)
     return str(signature.replace(parameters=list(signature.parameters.values())[1:]))
 

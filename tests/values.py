@@ -53,3 +53,11 @@ def spoil(value):
             spoil(part)
     if isinstance(value, list):
         value.clear()
+
+
+# Plain values of every kind, for judges: none of them is a certificate, but for the empty list.
+ANYTHING = [
+    True, False, None, 0, 1, -1, 8, 10 ** 12 - 1, "", "a", "x" * 4000, (), (0,), [0], [1], [True], [False], [None],
+    [[]], [()], ([],), [""], ["0"], [[[[[[[[]]]]]]]], [0] * 2999, ["x"] * 2999, [(0, 0)] * 900, [[0]] * 1000,
+    (0, 0, 0, 0, 0), [(0, 0, 0, 0, 0)], [(0, None, None, None)], [(1, [1])], [[0, 0, 0, 0]], [-1], [10 ** 12 - 1],
+]

@@ -4,6 +4,8 @@ from wardwork.errors import BadArgument
 
 # The number of words; machine arithmetic is modulo this number.
 WORDS = 65536
+LETTERS = "abcdefghijklmnopqrstuvwxyz"
+DIGITS = "0123456789"
 
 
 def is_integer(x):

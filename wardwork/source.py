@@ -1,14 +1,11 @@
 """Source rows of the machine language, read from a text and printed as one."""
 
-from wardwork.checks import is_pair, is_word
+from wardwork.checks import DIGITS, LETTERS, is_pair, is_word
 from wardwork.errors import BadArgument, BadText
 from wardwork.instructions import REGISTERS, is_instruction, is_number, operands_of
 
 # The operations in which a label name may stand in the place of the number.
 LABELLED = ("set", "jump", "zero", "link")
-
-_LETTERS = "abcdefghijklmnopqrstuvwxyz"
-_DIGITS = "0123456789"
 
 
 def read_source(text):
@@ -45,9 +42,9 @@ def _is_row(x):
 
 
 def _is_label(x):
-    if not isinstance(x, str) or not 1 <= len(x) <= 8 or x[0] not in _LETTERS:
+    if not isinstance(x, str) or not 1 <= len(x) <= 8 or x[0] not in LETTERS:
         return False
-    return all(sign in _LETTERS or sign in _DIGITS for sign in x)
+    return all(sign in LETTERS or sign in DIGITS for sign in x)
 
 
 def _is_body(x):
@@ -129,7 +126,7 @@ def _read_operand(name, sort, token):
 
 def _read_number(token):
     """The number of a number token, or None for any other token."""
-    if len(token) > 5 or not all(sign in _DIGITS for sign in token):
+    if len(token) > 5 or not all(sign in DIGITS for sign in token):
         return None
     if len(token) > 1 and token[0] == "0":
         return None
