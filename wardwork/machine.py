@@ -41,12 +41,21 @@ def run_alone(core, contents, answers, *, limit=200):
             if len(asked) > len(answers):
                 ending = "asks"
                 break
-            core = _answered(core, answers[len(asked) - 1])
+            core = answered(core, answers[len(asked) - 1])
     return (ending, steps, core, memory.contents(), asked)
 
 
+def is_core(x):
+    return isinstance(x, tuple) and len(x) == 5 and are_words(x)
+
+
+def answered(core, answer):
+    """The core after the answer took effect."""
+    return (core[0], *answer, *core[3:])
+
+
 def _ask_core(core):
-    if not isinstance(core, tuple) or len(core) != 5 or not are_words(core):
+    if not is_core(core):
         raise BadArgument("core")
 
 
@@ -54,10 +63,6 @@ def _ask_contents(contents):
     ask_words("contents", contents, 8, 128)
     if len(contents) % 8 != 0:
         raise BadArgument("contents")
-
-
-def _answered(core, answer):
-    return (core[0], *answer, *core[3:])
 
 
 def _value_of(core, letter):

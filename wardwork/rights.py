@@ -27,7 +27,7 @@ class Rights:
         _ask_number(number)
         ask_range("to", to, 0, 7)
         _ask_some_marks(marks)
-        _, _, thing, given, _ = self._right(number)
+        thing, given = self._right(number)[2:4]
         if "g" not in given or not are_within(marks, given):
             raise NotAllowed(number)
         return self._new(to, thing, marks, number)

@@ -34,6 +34,15 @@ def label_used(body):
     return body[-1]
 
 
+def read_number(token):
+    """The number of a number token, or None for any other token."""
+    if not 1 <= len(token) <= 5 or not all(sign in DIGITS for sign in token):
+        return None
+    if len(token) > 1 and token[0] == "0":
+        return None
+    return int(token)
+
+
 def _is_row(x):
     if not is_pair(x):
         return False
@@ -119,15 +128,6 @@ def _read_operand(name, sort, token):
         return token
     if sort == "R" or sort == "S":
         return token if token in REGISTERS else None
-    value = _read_number(token)
+    value = read_number(token)
     right = is_word(value) if sort == "W" else is_number(value)
     return value if right else None
-
-
-def _read_number(token):
-    """The number of a number token, or None for any other token."""
-    if len(token) > 5 or not all(sign in DIGITS for sign in token):
-        return None
-    if len(token) > 1 and token[0] == "0":
-        return None
-    return int(token)
