@@ -120,6 +120,30 @@ INTERFACE = {
         "find_chain": "(rows, holder, thing, mark)", "is_chain": "(chain, rows, roots, holder, thing, mark)",
         "is_book": "(rows, roots)",
     },
+    "phrases": {"parse_line": "(text)", "print_line": "(tree)"},
+    "filters": {
+        "Filter": {"": "(name, terms)", "feed": "(word)", "finish": "()"},
+        "filter_all": "(name, terms, words)", "run_pipeline": "(commands, words, *, room=4, turns=())",
+    },
+    "shell": {
+        "Shell": {
+            "": "(files, rights, user)", "run": "(text, *, room=4, turns=())", "__call__": "(text)",
+        },
+    },
+    "world": {
+        "World": {
+            "": "(programs, *, pages=4, priorities=(), frames=4, slots=32, rooms=(), gates=(), blocks=0, roots=())",
+            "do": "(event)", "run": "(events)", "record": "()", "log": "()", "status": "(pid)", "core": "(pid)",
+            "contents": "(pid)", "handles": "(pid)", "ready": "()", "pipe": "(k)", "gate": "(k)", "block": "(k)",
+            "rights": "()", "ages": "()", "tables": "()", "certificate": "()", "waits": "()", "ring_of_now": "()",
+            "view": "(pid)", "state": "()", "many": "property", "setup": "property", "built": "static (setup)",
+            "restored": "static (state)",
+        },
+    },
+    "histories": {
+        "is_view": "(view)", "project": "(log, pid)", "is_told": "(log, *, rooms, gates, blocks)",
+        "replay": "(setup, record)", "is_record": "(record, setup)",
+    },
 }
 ERRORS = ["WardError", "SourceError", "BadArgument", "BadText", "LabelTwice", "LabelMissing", "TooLong", "Unknown",
           "Taken", "NotAllowed", "WrongState", "RingOfWaits", "Full", "Stopped"]

@@ -1,5 +1,6 @@
 """The examples of README.md."""
 
+import builtins
 import doctest
 import pathlib
 import unittest
@@ -9,6 +10,8 @@ README = pathlib.Path(__file__).resolve().parent.parent / "README.md"
 
 class ReadmeTest(unittest.TestCase):
     def test_the_examples(self):
+        # An example that prints a value leaves it there.
+        self.addCleanup(lambda: vars(builtins).pop("_", None))
         # The fences are no part of what an example prints.
         text = README.read_text("utf-8").replace("```", "")
         examples = doctest.DocTestParser().get_doctest(text, {}, "README.md", None, None)
