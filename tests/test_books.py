@@ -156,6 +156,10 @@ class BookTest(WardCase):
                 self.assertIs(False, is_book(rows[:at] + [row] + rows[at + 1:], ROOTS), row)
         for value in [tuple(rows), [rows], (rows,)] + ANYTHING:
             self.assertIs(False, is_book(value, ROOTS), value)
+        # A number outside of the range, in its place among the others.
+        self.assertIs(True, is_book(rows + [(99, 2, "a", "r", 1)], ROOTS))
+        self.assertIs(False, is_book(rows + [(100, 2, "a", "r", 1)], ROOTS))
+        self.assertIs(False, is_book([(-1, 2, "a", "r", 1)] + rows, ROOTS))
 
     def test_wrong_order(self):
         rows = family().rows()

@@ -120,7 +120,8 @@ class FilterTest(WardCase):
         for name in ("", "a", "Pass", "pass ", " pass", "sums", "emit0", "0", "first2", "/pass"):
             for terms in ([], ["1"], None, 5, [0]):
                 self.raised(Unknown, {"what": name}, Filter, name, terms)
-                self.raised(Unknown, {"what": name}, filter_all, name, terms, [1])
+                for words in ([], [1], [0] * 200):
+                    self.raised(Unknown, {"what": name}, filter_all, name, terms, words)
 
     def test_wrong_terms(self):
         for name in PLAIN + NUMBERED + ["emit"]:

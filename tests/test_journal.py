@@ -273,7 +273,7 @@ class IsRecoveryTest(WardCase):
     def test_a_damaged_header(self):
         for header in DAMAGED:
             image = with_header(header)
-            for certificate in ([], [8], header[1:header[0] + 1], [block for block in header[1:] if block]):
+            for certificate in ([], [8], None, header[1:header[0] + 1], [block for block in header[1:] if block]):
                 self.assertIs(False, is_recovery(certificate, image, image))
                 self.assertIs(False, is_recovery(certificate, image, with_header(BLANK)))
 

@@ -136,6 +136,7 @@ class StateTest(WardCase):
 
     def test_changing_a_state_changes_nothing(self):
         world = self.waiting_world()
+        world.run([("end", 0), ("end", 2)])
         before, state = all_seen(world), world.state()
         again = World.restored(state)
         spoil(state)

@@ -212,6 +212,14 @@ class SoundTest(WardCase):
         spoilt[27][0] = coded("a")[0]
         self.assertIs(True, is_sound(spoilt))
 
+    def test_an_entry_without_a_node(self):
+        # Nothing else is wrong: no links are missing for these nodes.
+        for node in (0, 1, 5, 15, 16, 17, 30, 65535):
+            image = [list(BLANK) for _ in range(30)]
+            image[8] = [0, 0, 1, 24, 0, 0, 0, 0]
+            image[24] = [729, 0, node, 0, 0, 0, 0, 0]
+            self.assertIs(False, is_sound(image), node)
+
     def test_links(self):
         # One link less and one more, so that the sum is right.
         self.spoilt((FILE, 1, 2), (EMPTY, 1, 2))

@@ -140,10 +140,14 @@ class MakeTest(WardCase):
             self.same(setup, World.built(setup=setup).setup)
 
     def test_lists_are_neither_kept_nor_handed_out(self):
-        given = {"programs": [program("jump 0"), [0]], "priorities": [1], "rooms": [2], "gates": [1], "blocks": 1,
-                 "roots": [(0, "pipe:0", "rwg")]}
+        given = {"programs": [program("trap 1 ! jump 0"), asking((4, 0), (4, 0)), [0], asking((5, 0), (0,)), asking((5, 0))],
+                 "priorities": [1], "rooms": [2], "gates": [1], "blocks": 1, "slots": 60,
+                 "roots": [(0, "pipe:0", "rwg"), (1, "pipe:0", "r"), (3, "gate:0", "w"), (4, "gate:0", "w")]}
         world = World(**given)
-        world.run([("put", 0, 5), ("turn", 3)])
+        # A process that is ready, one that is waiting with an answer ahead of that, ended ones, and rows of each kind.
+        world.run([("put", 0, 5), ("force", 0, 3), ("force", 1, 9), ("force", 2, 1), ("put", 0, 6), ("put", 0, 7), ("put", 0, 8)])
+        world.run([("force", 3, 9), ("force", 4, 9), ("end", 0)])
+        self.same(["ended", "ready", "halt", "ready", "waiting"], [world.status(pid) for pid in range(5)])
         before = all_seen(world)
         given["programs"][0].clear()
         for value in given.values():
@@ -153,11 +157,15 @@ class MakeTest(WardCase):
         other = World.built(world.setup)
         other.run(events).clear()
         self.same([("turn", 1)], events)
-        for told in (world.setup[0][0], world.setup[0], world.setup[2], world.setup[5], world.setup[6], world.setup[8],
-                     world.record(), world.log(), world.contents(0), world.handles(0), world.ready(), world.pipe(0),
-                     world.gate(0), world.block(0), world.rights(), world.ages(), world.tables()[0][1], world.tables(),
-                     world.certificate()[0][1], world.certificate(), world.waits(), world.ring_of_now(), world.view(0)[1],
-                     world.view(0)[2], world.view(0)[3], world.view(0)[7]):
+        lists = [world.setup[0][0], world.setup[0], world.setup[2], world.setup[5], world.setup[6], world.setup[8],
+                 world.record(), world.log(), world.ready(), world.pipe(0), world.gate(0), world.block(0), world.rights(),
+                 world.ages(), world.tables()[0][1], world.tables(), world.certificate()[0][1], world.certificate(),
+                 world.waits()[0][1], world.waits(), world.ring_of_now()]
+        for pid in range(5):
+            view = world.view(pid)
+            lists.extend([world.contents(pid), world.handles(pid), view[1], view[2], view[3], view[7]])
+        self.assertEqual([], world.ring_of_now())
+        for told in lists:
             told.clear()
         self.same(before, all_seen(world))
 
@@ -199,9 +207,9 @@ class EventTest(WardCase):
     def test_idle(self):
         world = World([HALT, asking((4, 0))], rooms=[1], roots=[(1, "pipe:0", "r"), (0, "pipe:0", "w")])
         self.same((("force", 1, 9), 1, 2, "wait"), world.do(("force", 1, 9)))
-        self.same([(("force", 1, 1), None, 0, "idle"), (("force", 2, 1), None, 0, "idle"), (("end", 2), None, 0, "idle"),
-                   (("put", 1, 0), None, 0, "idle"), (("pull", 1), None, 0, "idle"), (("force", 7, 1), None, 0, "idle")],
-                  world.run([("force", 1, 1), ("force", 2, 1), ("end", 2), ("put", 1, 0), ("pull", 1), ("force", 7, 1)]))
+        events = [("force", 1, 1), ("force", 2, 1), ("end", 2), ("put", 1, 0), ("pull", 1), ("force", 7, 20), ("end", 7),
+                  ("put", 7, 65535), ("pull", 7)]
+        self.same([(event, None, 0, "idle") for event in events], world.run(events))
         # When process 0 ends, the pipe is closed for process 1, which is ready again.
         self.same([(("turn", 1), 0, 0, "halt"), (("turn", 9), 1, 0, "halt"), (("turn", 1), None, 0, "idle"),
                    (("force", 0, 1), None, 0, "idle"), (("end", 0), None, 0, "idle"), (("end", 1), None, 0, "idle")],
@@ -329,7 +337,13 @@ class WaitsTest(WardCase):
         self.same([(2, [0, 1, 3])], world.waits())
         world.do(("end", 1))
         self.same([(2, [0, 3])], world.waits())
-        # With the right of 3 for the gate the holder above would count for a gate, too.
+        # It is the holders of the rights above that count, not their numbers; they count also without a mark that helps.
+        world = World([asking((4, 0)), asking((9, 0, 4, 5))[:-1] + LOOP, LOOP, LOOP, asking((9, 0, 0, 4))[:-1] + LOOP],
+                      rooms=[1], roots=[(3, "pipe:0", "r"), (1, "pipe:0", "rg"), (2, "pipe:0", "w")])
+        world.run([("force", 1, 5), ("force", 4, 5), ("force", 0, 9)])
+        self.same([(3, 4, "pipe:0", "rg", 1), (4, 0, "pipe:0", "r", 3)], world.rights()[3:])
+        self.same([(0, [1, 2, 4])], world.waits())
+        # For a gate they count, too.
         world = World([asking((9, 0, 1, 7), (5, 0), (0,)), asking((5, 0)), asking((5, 0), (0,))], gates=[1],
                       roots=[(0, "gate:0", "rwg"), (2, "gate:0", "w")])
         world.run([("force", 0, 4), ("force", 2, 9), ("force", 1, 9)])

@@ -1,6 +1,6 @@
 """The journal of a disk: several home blocks are written as one deed, whatever stops the disk."""
 
-from wardwork.checks import are_different, is_in_range, is_integer, is_list_of_words, is_pair
+from wardwork.checks import are_different, is_in_range, is_list_of_words, is_pair
 from wardwork.disk import ask_image
 from wardwork.errors import BadArgument, WrongState
 
@@ -43,9 +43,8 @@ def settled(image):
 
 
 def is_recovery(certificate, before, after):
-    if not isinstance(certificate, list) or not all(is_integer(block) for block in certificate):
-        return False
-    if certificate != _blocks_told(before):
+    blocks = _blocks_told(before)
+    if blocks is None or certificate != blocks:
         return False
     return after == settled(before)
 
@@ -78,10 +77,8 @@ def _write_home(disk, moves):
 def _blocks_told(image):
     """The home blocks of the header, none of a clear one, or None if the header is damaged."""
     header = image[0]
-    count = header[0]
-    if count >= FIRST_HOME:
-        return None
-    blocks = header[1:count + 1]
+    # If the count is too great, these are fewer blocks, and the header is not theirs.
+    blocks = header[1:header[0] + 1]
     if header != _header_of(blocks) or not are_different(blocks):
         return None
     if not all(is_in_range(block, FIRST_HOME, len(image) - 1) for block in blocks):

@@ -82,9 +82,8 @@ def _token_at(text, at):
         return ("term", end, text[at:end])
     if text[at:at + 2] == "&&":
         return ("&&", at + 2, "")
-    if text[at] in "|<>;":
-        return (text[at], at + 1, "")
-    return ("mistake", at, "")
+    # A sign that is no operator can stand nowhere.
+    return (text[at], at + 1, "")
 
 
 def _is_plain_sign(sign):

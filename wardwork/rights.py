@@ -172,7 +172,7 @@ def is_thing(x):
 
 
 def are_marks(x):
-    return isinstance(x, str) and x in MARKS
+    return x in MARKS
 
 
 def are_within(marks, others):

@@ -22,14 +22,11 @@ class Shell:
         ask_range("room", room, 1, 16)
         ask_turns(turns, 8)
         told = []
-        status = "done"
         for joint, source, commands, target in parse_line(text):
-            words = []
-            if joint == "&&" and status != "done":
-                status = "skipped"
+            if joint == "&&" and told[-1][0] != "done":
+                told.append(("skipped", []))
             else:
-                status, words = self._run_pipeline(source, commands, target, room, turns)
-            told.append((status, words))
+                told.append(self._run_pipeline(source, commands, target, room, turns))
         return told
 
     def __call__(self, text):

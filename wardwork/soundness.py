@@ -67,8 +67,8 @@ def _reached(image):
     waiting = [0]
     while waiting:
         rows = entry_rows(image, waiting.pop())
-        for row in rows:
-            if is_folder(image, row[2]) and row[2] not in reached:
-                reached.append(row[2])
-                waiting.append(row[2])
+        # Each folder has one name and the root folder has none, so none is reached twice.
+        below = [row[2] for row in rows if is_folder(image, row[2])]
+        reached.extend(below)
+        waiting.extend(below)
     return sorted(reached)
